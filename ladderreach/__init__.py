@@ -1,0 +1,1 @@
+"""Ladderreach: which ladders solve which endless games."""

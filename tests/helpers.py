@@ -1,0 +1,161 @@
+"""What the tests share: a test case, drawn webs and games, and slow answers to hold the program against."""
+
+import itertools
+import random
+import unittest
+
+from ladderreach.games import Game
+from ladderreach.webs import Web
+
+
+class Case(unittest.TestCase):
+    def assert_raises(self, error, call, *args, **more):
+        """The call raises an object of exactly this class; `has` gives its attributes."""
+        has = more.pop("has", {})
+        with self.assertRaises(error) as caught:
+            call(*args, **more)
+        self.assertIs(type(caught.exception), error)
+        for name, value in has.items():
+            self.assertEqual(getattr(caught.exception, name), value)
+
+    def assert_cycle(self, cycle, edges):
+        """It is a list of these edges that is a cycle."""
+        self.assertIs(type(cycle), list)
+        self.assertGreater(len(cycle), 0)
+        for edge, following in zip(cycle, cycle[1:] + cycle[:1]):
+            self.assertIn(edge, edges)
+            self.assertEqual(edge[2], following[0])
+        sources = [edge[0] for edge in cycle]
+        self.assertEqual(len(set(sources)), len(sources))
+
+
+def all_edges(height, size):
+    return list(itertools.product(range(size), range(2 * height + 1), range(size)))
+
+
+def full_edges(height):
+    """63 edges between 9 nodes, 7 out of each, with all ranks, in an order that is not ascending."""
+    edges = []
+    for node in range(9):
+        for k in range(7):
+            edges.append((node, (2 * node + k) % (2 * height + 1), (node * 4 + k * 5) % 9))
+    assert len(set(edges)) == 63
+    return edges[40:] + edges[:40]
+
+
+def full_game(height):
+    return Game(height, "ABBABAABB", full_edges(height))
+
+
+def draw_web(rng, most_size=9, most_edges=63, height=None):
+    height = height or rng.randint(1, 3)
+    size = rng.randint(1, most_size)
+    possible = all_edges(height, size)
+    count = min(rng.randint(0, most_edges), len(possible))
+    return Web(height, size, rng.sample(possible, count))
+
+
+def draw_even_web(rng, most_size=9, tries=60, height=None):
+    """A web without an odd cycle: edges are put in as long as they close none."""
+    height = height or rng.randint(1, 3)
+    size = rng.randint(1, most_size)
+    edges = []
+    for edge in rng.sample(all_edges(height, size), min(tries, (2 * height + 1) * size * size)):
+        if not has_cycle(size, edges + [edge], 1) and len(edges) < 63:
+            edges.append(edge)
+    return Web(height, size, edges)
+
+
+def draw_game(rng, most_size=9, most_out=7, height=None):
+    height = height or rng.randint(1, 3)
+    size = rng.randint(1, most_size)
+    owners = "".join(rng.choice("AB") for _ in range(size))
+    edges = []
+    for node in range(size):
+        possible = [edge for edge in all_edges(height, size) if edge[0] == node]
+        edges.extend(rng.sample(possible, min(rng.randint(1, most_out), len(possible))))
+    rng.shuffle(edges)
+    return Game(height, owners, edges)
+
+
+def drawn(seed):
+    return random.Random(seed)
+
+
+def reaches(size, edges):
+    """The table of which node reaches which, each reaching itself."""
+    table = [[one == other for other in range(size)] for one in range(size)]
+    for source, _, target in edges:
+        table[source][target] = True
+    for middle in range(size):
+        for one in range(size):
+            for other in range(size):
+                if table[one][middle] and table[middle][other]:
+                    table[one][other] = True
+    return table
+
+
+def has_cycle(size, edges, remainder):
+    """Whether some cycle has a greatest rank with this remainder."""
+    for source, rank, target in edges:
+        if rank % 2 == remainder:
+            small = [edge for edge in edges if edge[1] <= rank]
+            if reaches(size, small)[target][source]:
+                return True
+    return False
+
+
+def simple_cycles(edges):
+    """All cycles, each once, beginning at its least node."""
+    found = []
+
+    def go_on(path):
+        for edge in edges:
+            if edge[0] == path[-1][2]:
+                if edge[2] == path[0][0]:
+                    found.append(path + [edge])
+                elif edge[2] > path[0][0] and edge[2] not in [other[0] for other in path + [edge]]:
+                    go_on(path + [edge])
+
+    for edge in edges:
+        if edge[0] == edge[2]:
+            found.append([edge])
+        elif edge[2] > edge[0]:
+            go_on([edge])
+    return found
+
+
+def greatest_rank(edges):
+    return max(edge[1] for edge in edges)
+
+
+def slow_winners(game):
+    """A wins a node exactly if, with some plan of A, it does not reach an odd cycle."""
+    ways = [[edge for edge in game.edges if edge[0] == node] for node in range(game.size)]
+    choices = [[[edge] for edge in ways[node]] if game.owners[node] == "A" else [ways[node]]
+               for node in range(game.size)]
+    won = [False] * game.size
+    for choice in itertools.product(*choices):
+        edges = [edge for taken in choice for edge in taken]
+        bad = {edge[0] for cycle in simple_cycles(edges) if greatest_rank(cycle) % 2 == 1 for edge in cycle}
+        table = reaches(game.size, edges)
+        for node in range(game.size):
+            if not any(table[node][other] for other in bad):
+                won[node] = True
+    return "".join("A" if each else "B" for each in won)
+
+
+def gap(levels, one, other):
+    between = levels[min(one, other):max(one, other)]
+    return max(between) if between else 0
+
+
+def allowed(levels, source, rank, target):
+    """The words of the point on allowed edges."""
+    if rank % 2 == 0:
+        return source >= target or gap(levels, source, target) <= rank // 2
+    return source > target and gap(levels, source, target) >= (rank + 1) // 2
+
+
+def all_rows_up_to(height, count):
+    return [row for length in range(count + 1) for row in itertools.product(range(1, height + 1), repeat=length)]

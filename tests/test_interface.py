@@ -1,0 +1,54 @@
+"""The interface: where each name is defined, and the examples."""
+
+import importlib
+import inspect
+
+from ladderreach.cycles import components
+from ladderreach.errors import BadEdge
+from ladderreach.games import Game
+from ladderreach.webs import Web
+from tests.helpers import Case
+
+CLASSES = {
+    "webs": {"Web": ["__init__", "__iter__", "out", "part"]},
+    "games": {"Game": [
+        "__init__", "__eq__", "__iter__", "out", "part", "with_edge", "without_edge", "with_owner", "mirrored",
+        "raised",
+    ]},
+}
+
+FUNCTIONS = {
+    "combine": ["side_by_side", "either", "all_of"],
+    "gametext": ["format_game", "parse_game"],
+    "cycles": ["odd_cycle", "components"],
+}
+
+
+class InterfaceTest(Case):
+    def test_classes(self):
+        for file, classes in CLASSES.items():
+            module = importlib.import_module("ladderreach." + file)
+            for name, methods in classes.items():
+                found = getattr(module, name)
+                self.assertTrue(inspect.isclass(found))
+                self.assertEqual(found.__module__, "ladderreach." + file)
+                for method in methods:
+                    self.assertIn(method, vars(found), f"{name}.{method}")
+
+    def test_functions(self):
+        for file, names in FUNCTIONS.items():
+            module = importlib.import_module("ladderreach." + file)
+            for name in names:
+                self.assertTrue(inspect.isfunction(getattr(module, name)))
+                self.assertEqual(getattr(module, name).__module__, "ladderreach." + file)
+
+    def test_a_game_is_a_web(self):
+        self.assertEqual(Game.__bases__, (Web,))
+
+
+class ExampleTest(Case):
+    def test_games(self):
+        self.assert_raises(BadEdge, Game, 1, "A", [(0, 1, 1)], has={"index": 0})
+
+    def test_cycles(self):
+        self.assertEqual(components(Web(1, 3, [(0, 0, 1), (1, 1, 0), (2, 0, 0)])), [[0, 1], [2]])
