@@ -3,6 +3,4 @@
 
 def is_number(word):
     """Whether the word is a number in decimal digits without leading zeros."""
-    if not (word.isascii() and word.isdigit()):
-        return False
-    return word == "0" or not word.startswith("0")
+    return word == "0" or (word.isdigit() and not word.startswith("0"))

@@ -159,3 +159,44 @@ def allowed(levels, source, rank, target):
 
 def all_rows_up_to(height, count):
     return [row for length in range(count + 1) for row in itertools.product(range(1, height + 1), repeat=length)]
+
+
+def draw_row(rng, height, most_levels=24):
+    return tuple(rng.randint(1, height) for _ in range(rng.randint(0, most_levels)))
+
+
+def draw_standing_web(rng, height, size, edges):
+    """A web with up to this many edges, all allowed between drawn steps of a drawn ladder."""
+    levels = tuple(rng.randint(1, height) for _ in range(size - 1))
+    steps = [rng.randint(0, len(levels)) for _ in range(size)]
+    possible = [edge for edge in all_edges(height, size) if allowed(levels, steps[edge[0]], edge[1], steps[edge[2]])]
+    return Web(height, size, rng.sample(possible, min(edges, len(possible))))
+
+
+def fits(game, levels, placement):
+    """Whether all nodes fit, looked at edge by edge."""
+    for node in range(game.size):
+        if placement[node] is not None:
+            good = [
+                placement[edge[2]] is not None and allowed(levels, placement[node], edge[1], placement[edge[2]])
+                for edge in game.edges if edge[0] == node
+            ]
+            if not (any(good) if game.owners[node] == "A" else all(good)):
+                return False
+    return True
+
+
+def wins_for(game, player, nodes, plan):
+    """Whether the plan wins for the player on these nodes: no missing entry, no leak, no wrong cycle."""
+    edges = []
+    for edge in game.edges:
+        if edge[0] in nodes:
+            if game.owners[edge[0]] != player:
+                edges.append(edge)
+            elif plan[edge[0]] is None:
+                return False
+            elif plan[edge[0]] == edge:
+                edges.append(edge)
+    if any(edge[2] not in nodes for edge in edges):
+        return False
+    return not has_cycle(game.size, edges, 1 if player == "A" else 0)

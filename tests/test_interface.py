@@ -6,6 +6,7 @@ import inspect
 from ladderreach.cycles import components
 from ladderreach.errors import BadEdge
 from ladderreach.games import Game
+from ladderreach.ladders import Ladder
 from ladderreach.webs import Web
 from tests.helpers import Case
 
@@ -15,12 +16,21 @@ CLASSES = {
         "__init__", "__eq__", "__iter__", "out", "part", "with_edge", "without_edge", "with_owner", "mirrored",
         "raised",
     ]},
+    "ladders": {"Ladder": [
+        "__init__", "__eq__", "__iter__", "gap", "high", "allows", "least", "greatest", "pieces", "flipped",
+        "__add__", "__contains__", "halving", "plain",
+    ]},
 }
 
 FUNCTIONS = {
     "combine": ["side_by_side", "either", "all_of"],
     "gametext": ["format_game", "parse_game"],
     "cycles": ["odd_cycle", "components"],
+    "stands": ["stand"],
+    "forcing": ["force"],
+    "plans": ["judge", "play"],
+    "winners": ["solve"],
+    "certificates": ["certify"],
 }
 
 
@@ -42,6 +52,10 @@ class InterfaceTest(Case):
                 self.assertTrue(inspect.isfunction(getattr(module, name)))
                 self.assertEqual(getattr(module, name).__module__, "ladderreach." + file)
 
+    def test_class_methods(self):
+        for name in ("halving", "plain"):
+            self.assertIsInstance(vars(Ladder)[name], classmethod)
+
     def test_a_game_is_a_web(self):
         self.assertEqual(Game.__bases__, (Web,))
 
@@ -52,3 +66,9 @@ class ExampleTest(Case):
 
     def test_cycles(self):
         self.assertEqual(components(Web(1, 3, [(0, 0, 1), (1, 1, 0), (2, 0, 0)])), [[0, 1], [2]])
+
+    def test_ladders(self):
+        self.assertEqual(Ladder(2, [1, 2, 1]).gap(0, 3), 2)
+        self.assertIs(Ladder(2, [1, 2, 1]).allows(0, 2, 1), True)
+        self.assertIs(Ladder(2, [1, 2, 1]).allows(0, 2, 2), False)
+        self.assertEqual(Ladder.halving(2, 3).levels, (2, 1, 1, 2))
