@@ -37,7 +37,7 @@ class WebTest(Case):
             self.assertEqual(list(web), sorted(full_edges(height)))
             for node in range(9):
                 self.assertEqual(len(web.out(node)), 7)
-            self.assertEqual(web.part(range(9)[::-1]).edges, web.edges)
+            self.assertEqual(web.part(list(range(9))[::-1]).edges, web.edges)
 
     def test_bad_height(self):
         for height in (-1, 0, 4, 10 ** 59):
