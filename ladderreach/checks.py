@@ -1,6 +1,6 @@
 """Checks of arguments that several calls share."""
 
-from ladderreach.errors import BadHeight, BadLevel, HeightMismatch, NoSuchNode, TooLarge
+from ladderreach.errors import BadHeight, BadLevel, HeightMismatch, NoSuchNode, NoSuchRank, NoSuchStep, TooLarge
 
 
 def check_height(height):
@@ -25,6 +25,18 @@ def check_nodes(size, nodes):
     """Raise NoSuchNode for the first of the nodes that does not exist."""
     for node in nodes:
         check_node(size, node)
+
+
+def check_step(top, step):
+    """Raise NoSuchStep if the step is not one from 0 to the top."""
+    if not 0 <= step <= top:
+        raise NoSuchStep(step)
+
+
+def check_rank(height, rank):
+    """Raise NoSuchRank if the rank is not one from 0 to twice the height."""
+    if not 0 <= rank <= 2 * height:
+        raise NoSuchRank(rank)
 
 
 def check_row(height, row, most):

@@ -1,8 +1,8 @@
 """Ladders: rows of levels with steps between them."""
 
-from ladderreach.checks import check_height, check_row, check_same_height
-from ladderreach.errors import BadSize, NoSuchLevel, NoSuchRank, NoSuchStep
-from ladderreach.marks import next_marks
+from ladderreach.checks import check_height, check_rank, check_row, check_same_height, check_step
+from ladderreach.errors import BadSize, NoSuchLevel
+from ladderreach.marks import holds
 from ladderreach.rowshapes import halving_row, plain_row
 
 
@@ -32,10 +32,7 @@ class Ladder:
 
     def __contains__(self, row):
         check_row(self.height, row, Ladder.MOST_LEVELS)
-        marked = list(range(self.top + 1))
-        for level in row:
-            marked = next_marks(self.levels, marked, level)
-        return len(marked) > 0
+        return holds(self.levels, row)
 
     @classmethod
     def halving(cls, height, count):
@@ -51,28 +48,28 @@ class Ladder:
 
     def gap(self, one, other):
         """The greatest level between two steps, 0 if they are the same."""
-        self._check_step(one)
-        self._check_step(other)
+        check_step(self.top, one)
+        check_step(self.top, other)
         return max(self.levels[min(one, other):max(one, other)], default=0)
 
     def high(self, level, step):
         """The number of levels below the step that are at least this level."""
         if not 1 <= level <= self.height + 1:
             raise NoSuchLevel(level)
-        self._check_step(step)
+        check_step(self.top, step)
         return self._counts[level - 1][step]
 
     def allows(self, source, rank, target):
         """Whether an edge of the rank is allowed from one step to the other."""
-        self._check_step(source)
-        self._check_rank(rank)
-        self._check_step(target)
+        check_step(self.top, source)
+        check_rank(self.height, rank)
+        check_step(self.top, target)
         return self._lets(source, rank, target)
 
     def least(self, rank, target):
         """The least step from which the rank is allowed to the target, or None."""
-        self._check_rank(rank)
-        self._check_step(target)
+        check_rank(self.height, rank)
+        check_step(self.top, target)
         for step in range(self.top + 1):
             if self._lets(step, rank, target):
                 return step
@@ -80,8 +77,8 @@ class Ladder:
 
     def greatest(self, source, rank):
         """The greatest step to which the rank is allowed from the source, or None."""
-        self._check_step(source)
-        self._check_rank(rank)
+        check_step(self.top, source)
+        check_rank(self.height, rank)
         for step in reversed(range(self.top + 1)):
             if self._lets(source, rank, step):
                 return step
@@ -108,16 +105,6 @@ class Ladder:
         if rank % 2 == 0:
             return counts[source] >= counts[target]
         return counts[source] > counts[target]
-
-    def _check_step(self, step):
-        """Raise NoSuchStep if the step does not exist."""
-        if not 0 <= step <= self.top:
-            raise NoSuchStep(step)
-
-    def _check_rank(self, rank):
-        """Raise NoSuchRank if the rank is out of range."""
-        if not 0 <= rank <= 2 * self.height:
-            raise NoSuchRank(rank)
 
 
 def _counts_from(level, levels):

@@ -19,3 +19,16 @@ def next_marks(levels, marked, level):
         if equal:
             found.append(step + 1)
     return found
+
+
+def last_marks(levels, row):
+    """The steps that can be the last one of a choice of steps whose gaps are the row, in ascending order."""
+    marked = list(range(len(levels) + 1))
+    for level in row:
+        marked = next_marks(levels, marked, level)
+    return marked
+
+
+def holds(levels, row):
+    """Whether the ladder with these levels holds the row."""
+    return len(last_marks(levels, row)) > 0

@@ -1,4 +1,4 @@
-"""Rows that are built by a rule."""
+"""Rows that are built by a rule, and lists of all rows."""
 
 
 def halving_row(count, level):
@@ -21,3 +21,16 @@ def plain_row(count, level):
         return ()
     part = plain_row(count, level - 1)
     return part + ((level,) + part) * (count - 1)
+
+
+def rows_of(height, count):
+    """All rows of this number of levels, in lexicographic order."""
+    rows = [()]
+    for _ in range(count):
+        rows = [row + (level,) for row in rows for level in range(1, height + 1)]
+    return rows
+
+
+def rows_up_to(height, most):
+    """All rows of at most this number of levels, in the order of rows."""
+    return [row for count in range(most + 1) for row in rows_of(height, count)]

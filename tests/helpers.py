@@ -173,17 +173,95 @@ def draw_standing_web(rng, height, size, edges):
     return Web(height, size, rng.sample(possible, min(edges, len(possible))))
 
 
+def node_fits(game, levels, placement, node):
+    """Whether the node fits, looked at edge by edge."""
+    if placement[node] is None:
+        return True
+    good = [
+        placement[edge[2]] is not None and allowed(levels, placement[node], edge[1], placement[edge[2]])
+        for edge in game.edges if edge[0] == node
+    ]
+    return any(good) if game.owners[node] == "A" else all(good)
+
+
 def fits(game, levels, placement):
-    """Whether all nodes fit, looked at edge by edge."""
-    for node in range(game.size):
-        if placement[node] is not None:
-            good = [
-                placement[edge[2]] is not None and allowed(levels, placement[node], edge[1], placement[edge[2]])
-                for edge in game.edges if edge[0] == node
-            ]
-            if not (any(good) if game.owners[node] == "A" else all(good)):
-                return False
-    return True
+    """Whether all nodes fit."""
+    return all(node_fits(game, levels, placement, node) for node in range(game.size))
+
+
+def slow_lift(game, levels, placement, node):
+    """The placement after the node has been lifted, all steps from the present one on being tried."""
+    if placement[node] is None:
+        return list(placement)
+    for step in [*range(placement[node], len(levels) + 1), None]:
+        tried = [step if other == node else placement[other] for other in range(game.size)]
+        if node_fits(game, levels, tried, node):
+            return tried
+    raise AssertionError("a node that is off fits")
+
+
+def slow_climb(game, levels, choose=min):
+    """The placement after lifting nodes that do not fit, in the order in which choose takes them."""
+    placement = [0] * game.size
+    while True:
+        wrong = [node for node in range(game.size) if not node_fits(game, levels, placement, node)]
+        if not wrong:
+            return placement
+        placement = slow_lift(game, levels, placement, choose(wrong))
+
+
+def slow_told(game, levels):
+    return [node for node, entry in enumerate(slow_climb(game, levels)) if entry is not None]
+
+
+def all_holding_steps(levels, row):
+    """All choices of steps by which the ladder with these levels holds the row, in lexicographic order."""
+    return [
+        list(steps) for steps in itertools.combinations(range(len(levels) + 1), len(row) + 1)
+        if all(gap(levels, steps[k], steps[k + 1]) == row[k] for k in range(len(row)))
+    ]
+
+
+def slow_holds(levels, row):
+    return len(all_holding_steps(levels, row)) > 0
+
+
+def draw_placement(rng, size, levels):
+    """Steps of the ladder with these levels, and some nodes off."""
+    return [rng.choice([None, *range(len(levels) + 1)]) for _ in range(size)]
+
+
+def draw_fitting_game(rng, height, levels, most_size=9, most_out=5):
+    """A game, and a placement in which many of its nodes fit: A has an allowed edge there, B nothing else."""
+    size = rng.randint(1, most_size)
+    placement = [rng.randint(0, len(levels)) for _ in range(size)]
+    owners = "".join(rng.choice("AB") for _ in range(size))
+    edges = []
+    for node in range(size):
+        possible = [edge for edge in all_edges(height, size) if edge[0] == node]
+        good = [edge for edge in possible if allowed(levels, placement[node], edge[1], placement[edge[2]])]
+        taken = rng.sample(good, min(len(good), rng.randint(1, most_out)))
+        if owners[node] == "A" or rng.random() < 0.1:
+            taken.append(rng.choice(possible))
+        edges.extend(sorted(set(taken)))
+    rng.shuffle(edges)
+    return Game(height, owners, edges), placement
+
+
+def long_levels(height):
+    """24 levels of all kinds."""
+    return tuple((5 * k + k // 3) % height + 1 for k in range(24))
+
+
+def games_and_levels(rng, count, most_size=9, most_levels=24):
+    """Drawn games, each with the levels of a ladder of its height: half of them fit somewhere."""
+    for turn in range(count):
+        height = turn % 3 + 1
+        levels = draw_row(rng, height, most_levels)
+        if turn % 2 == 0:
+            yield draw_game(rng, most_size=most_size, most_out=3, height=height), levels
+        else:
+            yield draw_fitting_game(rng, height, levels, most_size=most_size)[0], levels
 
 
 def wins_for(game, player, nodes, plan):

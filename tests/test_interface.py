@@ -3,10 +3,13 @@
 import importlib
 import inspect
 
+from ladderreach.climbing import climb
 from ladderreach.cycles import components
-from ladderreach.errors import BadEdge
+from ladderreach.errors import BadEdge, BadLine
 from ladderreach.games import Game
+from ladderreach.holding import hold
 from ladderreach.ladders import Ladder
+from ladderreach.laddertext import parse_ladder
 from ladderreach.webs import Web
 from tests.helpers import Case
 
@@ -31,6 +34,12 @@ FUNCTIONS = {
     "plans": ["judge", "play"],
     "winners": ["solve"],
     "certificates": ["certify"],
+    "laddertext": ["format_ladder", "parse_ladder"],
+    "rows": ["all_rows"],
+    "climbing": ["misfits", "lift", "lifts", "climb", "told_nodes"],
+    "climbplans": ["plan_of", "allowed_edges"],
+    "sides": ["both_sides"],
+    "holding": ["ends", "hold"],
 }
 
 
@@ -72,3 +81,15 @@ class ExampleTest(Case):
         self.assertIs(Ladder(2, [1, 2, 1]).allows(0, 2, 1), True)
         self.assertIs(Ladder(2, [1, 2, 1]).allows(0, 2, 2), False)
         self.assertEqual(Ladder.halving(2, 3).levels, (2, 1, 1, 2))
+
+    def test_laddertext(self):
+        self.assert_raises(BadLine, parse_ladder, "ladder 2: 1 02", has={"number": 1})
+
+    def test_climbing(self):
+        game = Game(1, "BB", [(0, 1, 1), (1, 2, 0)])
+        self.assertEqual(climb(game, Ladder(1, [1])), [1, 0])
+        self.assertEqual(climb(game, Ladder(1, [])), [None, None])
+
+    def test_holding(self):
+        self.assertEqual(hold(Ladder(2, [1, 2, 1]), (2,)), [0, 2])
+        self.assertIs(hold(Ladder(2, [1, 2, 1]), (1, 1)) is None, True)

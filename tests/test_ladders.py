@@ -6,9 +6,9 @@ from ladderreach.errors import (
     BadHeight, BadLevel, BadSize, HeightMismatch, NoSuchLevel, NoSuchRank, NoSuchStep, TooLarge,
 )
 from ladderreach.ladders import Ladder
-from tests.helpers import Case, all_rows_up_to, allowed, draw_row, drawn, gap
+from tests.helpers import Case, all_rows_up_to, allowed, draw_row, drawn, gap, long_levels, slow_holds
 
-MOST = {height: [(5 * k + k // 3) % height + 1 for k in range(24)] for height in (1, 2, 3)}
+MOST = {height: list(long_levels(height)) for height in (1, 2, 3)}
 
 
 def many_ladders():
@@ -311,14 +311,6 @@ class ShapeTest(Case):
             for ladder in (Ladder.halving(height, count), Ladder.plain(height, count)):
                 for row in all_rows_up_to(height, count - 1):
                     self.assertTrue(row in ladder)
-
-
-def slow_holds(levels, row):
-    """Whether some choice of steps fits, all choices being tried."""
-    for steps in itertools.combinations(range(len(levels) + 1), len(row) + 1):
-        if all(gap(levels, steps[k], steps[k + 1]) == row[k] for k in range(len(row))):
-            return True
-    return False
 
 
 class HoldsTest(Case):
