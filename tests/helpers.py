@@ -226,6 +226,20 @@ def slow_holds(levels, row):
     return len(all_holding_steps(levels, row)) > 0
 
 
+def marked_holds(levels, row):
+    """The same for long ladders: the steps that can be the last one, level by level."""
+    steps = range(len(levels) + 1)
+    marked = set(steps)
+    for level in row:
+        marked = {step for step in steps if any(
+            before < step and gap(levels, before, step) == level for before in marked)}
+    return len(marked) > 0
+
+
+def row_order(row):
+    return (len(row), row)
+
+
 def draw_placement(rng, size, levels):
     """Steps of the ladder with these levels, and some nodes off."""
     return [rng.choice([None, *range(len(levels) + 1)]) for _ in range(size)]

@@ -3,6 +3,8 @@
 import importlib
 import inspect
 
+from ladderreach.asking import asked
+from ladderreach.asks import Ask
 from ladderreach.climbing import climb
 from ladderreach.cycles import components
 from ladderreach.errors import BadEdge, BadLine
@@ -10,6 +12,10 @@ from ladderreach.games import Game
 from ladderreach.holding import hold
 from ladderreach.ladders import Ladder
 from ladderreach.laddertext import parse_ladder
+from ladderreach.reaching import lacking, reach
+from ladderreach.readers import read
+from ladderreach.rowgames import row_game
+from ladderreach.stands import stand
 from ladderreach.webs import Web
 from tests.helpers import Case
 
@@ -23,6 +29,8 @@ CLASSES = {
         "__init__", "__eq__", "__iter__", "gap", "high", "allows", "least", "greatest", "pieces", "flipped",
         "__add__", "__contains__", "halving", "plain",
     ]},
+    "asks": {"Ask": ["__init__", "__eq__", "never", "always", "__contains__", "__or__", "__and__", "within"]},
+    "readers": {"Reader": ["__init__", "__call__", "off", "reset"]},
 }
 
 FUNCTIONS = {
@@ -40,6 +48,11 @@ FUNCTIONS = {
     "climbplans": ["plan_of", "allowed_edges"],
     "sides": ["both_sides"],
     "holding": ["ends", "hold"],
+    "rowgames": ["row_game"],
+    "reaching": ["lacking", "reach", "failing_game"],
+    "partings": ["compare", "parting_row", "alike_up_to"],
+    "asking": ["asked", "ask_game", "covers"],
+    "readers": ["read", "stays"],
 }
 
 
@@ -64,6 +77,10 @@ class InterfaceTest(Case):
     def test_class_methods(self):
         for name in ("halving", "plain"):
             self.assertIsInstance(vars(Ladder)[name], classmethod)
+
+    def test_static_methods(self):
+        for name in ("never", "always"):
+            self.assertIsInstance(vars(Ask)[name], staticmethod)
 
     def test_a_game_is_a_web(self):
         self.assertEqual(Game.__bases__, (Web,))
@@ -93,3 +110,18 @@ class ExampleTest(Case):
     def test_holding(self):
         self.assertEqual(hold(Ladder(2, [1, 2, 1]), (2,)), [0, 2])
         self.assertIs(hold(Ladder(2, [1, 2, 1]), (1, 1)) is None, True)
+
+    def test_reaching(self):
+        self.assertEqual(reach(Ladder(2, [2, 1, 1, 2])), 3)
+        self.assertEqual(lacking(Ladder(2, [2, 1, 1, 2]), 4), (1, 1, 1))
+
+    def test_rowgames(self):
+        self.assertEqual(row_game(Ladder(2, [1, 2])).edges, ((0, 2, 1), (1, 1, 0), (1, 4, 2), (2, 3, 1)))
+        self.assertEqual(stand(row_game(Ladder(2, [1, 2]))), ((1, 2), [0, 1, 2]))
+
+    def test_asking(self):
+        self.assertEqual(asked(Game(1, "BB", [(0, 1, 1), (1, 2, 0)]), 0).rows, ((1,),))
+        self.assertEqual((Ask(2, [(1,)]) & Ask(2, [(2,)])).rows, ((1, 2), (2, 1)))
+
+    def test_readers(self):
+        self.assertEqual(read(Ladder(2, [1, 2, 1]), [1, 2, 3, 4]), [2, 3, 1, 3])
