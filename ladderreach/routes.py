@@ -1,8 +1,8 @@
 """Paths and cycles among some edges."""
 
 
-def path_between(edges, start, goal):
-    """A path with the fewest edges from start to goal, as a list of edges, or None."""
+def paths_from(edges, start):
+    """For each node that can be reached a path with the fewest edges from the start, as a list of edges."""
     paths = {start: []}
     waiting = [start]
     while waiting:
@@ -11,7 +11,12 @@ def path_between(edges, start, goal):
             if edge[0] == node and edge[2] not in paths:
                 paths[edge[2]] = paths[node] + [edge]
                 waiting.append(edge[2])
-    return paths.get(goal)
+    return paths
+
+
+def path_between(edges, start, goal):
+    """A path with the fewest edges from start to goal, as a list of edges, or None."""
+    return paths_from(edges, start).get(goal)
 
 
 def cycle_with(edges, remainder):
@@ -24,3 +29,15 @@ def cycle_with(edges, remainder):
             if path is not None:
                 return [edge, *path]
     return None
+
+
+def way_round(edges, start, remainder):
+    """A path from the start and such a cycle that begins where the path ends, or None if none can be reached."""
+    paths = paths_from(edges, start)
+    cycle = cycle_with([edge for edge in edges if edge[0] in paths], remainder)
+    if cycle is None:
+        return None
+    # By the shortest path no node is visited twice before the cycle has come round.
+    lengths = [len(paths[edge[0]]) for edge in cycle]
+    first = lengths.index(min(lengths))
+    return paths[cycle[first][0]], cycle[first:] + cycle[:first]

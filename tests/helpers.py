@@ -292,3 +292,61 @@ def wins_for(game, player, nodes, plan):
     if any(edge[2] not in nodes for edge in edges):
         return False
     return not has_cycle(game.size, edges, 1 if player == "A" else 0)
+
+
+def slow_step(levels, step, rank):
+    """The greatest step to which the rank is allowed, None if there is none or the step is None."""
+    if step is None:
+        return None
+    return max([end for end in range(len(levels) + 1) if allowed(levels, step, rank, end)], default=None)
+
+
+def slow_read(levels, word, step):
+    found = []
+    for rank in word:
+        step = slow_step(levels, step, rank)
+        found.append(step)
+    return found
+
+
+def draw_word(rng, height, most):
+    return [rng.randint(0, 2 * height) for _ in range(rng.randint(0, most))]
+
+
+def slow_halving(count, level):
+    if level == 0:
+        return []
+    parts = [slow_halving((count - 1) // 2, level)] if (count - 1) // 2 else []
+    parts.append(slow_halving(count, level - 1))
+    if count // 2:
+        parts.append(slow_halving(count // 2, level))
+    row = parts[0]
+    for part in parts[1:]:
+        row = row + [level] + part
+    return row
+
+
+def slow_lacking(levels, height, count, holds=slow_holds):
+    for row in itertools.product(range(1, height + 1), repeat=count - 1):
+        if not holds(levels, row):
+            return row
+    return None
+
+
+def slow_reach(levels, height):
+    count = 1
+    while slow_lacking(levels, height, count + 1, marked_holds) is None:
+        count += 1
+    return count
+
+
+def pairs_of_levels(rng, most_levels, count):
+    """Pairs of levels of one height, and some in which one ladder is cut out of the other."""
+    for turn in range(count):
+        height = turn % 3 + 1
+        levels = draw_row(rng, height, most_levels)
+        if turn % 2 == 0:
+            yield height, levels, draw_row(rng, height, most_levels)
+        else:
+            kept = tuple(level for level in levels if rng.random() < 0.7)
+            yield (height, levels, kept) if turn % 4 == 1 else (height, kept, levels)

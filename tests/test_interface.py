@@ -12,11 +12,14 @@ from ladderreach.games import Game
 from ladderreach.holding import hold
 from ladderreach.ladders import Ladder
 from ladderreach.laddertext import parse_ladder
+from ladderreach.leasts import least_ladder
 from ladderreach.reaching import lacking, reach
 from ladderreach.readers import read
 from ladderreach.rowgames import row_game
+from ladderreach.sizes import floor_steps, halving_steps
 from ladderreach.stands import stand
 from ladderreach.webs import Web
+from ladderreach.words import parting_word
 from tests.helpers import Case
 
 CLASSES = {
@@ -31,6 +34,7 @@ CLASSES = {
     ]},
     "asks": {"Ask": ["__init__", "__eq__", "never", "always", "__contains__", "__or__", "__and__", "within"]},
     "readers": {"Reader": ["__init__", "__call__", "off", "reset"]},
+    "watchers": {"Watcher": ["__init__", "move"]},
 }
 
 FUNCTIONS = {
@@ -53,6 +57,12 @@ FUNCTIONS = {
     "partings": ["compare", "parting_row", "alike_up_to"],
     "asking": ["asked", "ask_game", "covers"],
     "readers": ["read", "stays"],
+    "words": ["parting_word", "word_game"],
+    "watchers": ["watch", "false_win"],
+    "staying": ["staying", "watched_nodes"],
+    "watchladders": ["ladder_of", "watcher_of"],
+    "sizes": ["floor_steps", "halving_steps"],
+    "leasts": ["least_ladder", "shortest_for"],
 }
 
 
@@ -125,3 +135,12 @@ class ExampleTest(Case):
 
     def test_readers(self):
         self.assertEqual(read(Ladder(2, [1, 2, 1]), [1, 2, 3, 4]), [2, 3, 1, 3])
+
+    def test_words(self):
+        self.assertEqual(parting_word(Ladder(1, [1]), Ladder(1, [])), [1])
+
+    def test_sizes(self):
+        self.assertEqual((floor_steps(2, 5), floor_steps(3, 5), halving_steps(3, 5)), (11, 17, 19))
+
+    def test_leasts(self):
+        self.assertEqual(least_ladder(2, 3).levels, (2, 1, 1, 2))

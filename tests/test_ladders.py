@@ -6,7 +6,9 @@ from ladderreach.errors import (
     BadHeight, BadLevel, BadSize, HeightMismatch, NoSuchLevel, NoSuchRank, NoSuchStep, TooLarge,
 )
 from ladderreach.ladders import Ladder
-from tests.helpers import Case, all_rows_up_to, allowed, draw_row, drawn, gap, long_levels, slow_holds
+from tests.helpers import (
+    Case, all_rows_up_to, allowed, draw_row, drawn, gap, long_levels, slow_halving, slow_holds,
+)
 
 MOST = {height: list(long_levels(height)) for height in (1, 2, 3)}
 
@@ -243,19 +245,6 @@ class RowTest(Case):
         self.assert_raises(TooLarge, lambda: Ladder(2, [1] * 24) + Ladder(2, []))
         self.assert_raises(HeightMismatch, lambda: Ladder(2, []) + Ladder(3, []))
         self.assert_raises(HeightMismatch, lambda: Ladder(2, [1] * 24) + Ladder(1, [1] * 24))
-
-
-def slow_halving(count, level):
-    if level == 0:
-        return []
-    parts = [slow_halving((count - 1) // 2, level)] if (count - 1) // 2 else []
-    parts.append(slow_halving(count, level - 1))
-    if count // 2:
-        parts.append(slow_halving(count // 2, level))
-    row = parts[0]
-    for part in parts[1:]:
-        row = row + [level] + part
-    return row
 
 
 def slow_plain(count, level):

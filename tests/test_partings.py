@@ -5,7 +5,7 @@ from ladderreach.errors import HeightMismatch, TooLarge
 from ladderreach.ladders import Ladder
 from ladderreach.partings import alike_up_to, compare, parting_row
 from ladderreach.rowgames import row_game
-from tests.helpers import Case, all_rows_up_to, draw_game, draw_row, drawn, long_levels, marked_holds
+from tests.helpers import Case, all_rows_up_to, draw_game, drawn, long_levels, marked_holds, pairs_of_levels
 
 
 def slow_parting_row(height, levels, other_levels):
@@ -13,18 +13,6 @@ def slow_parting_row(height, levels, other_levels):
         if marked_holds(levels, row) and not marked_holds(other_levels, row):
             return row
     return None
-
-
-def pairs(rng, most_levels, count):
-    """Pairs of levels of one height, and some in which one ladder is cut out of the other."""
-    for turn in range(count):
-        height = turn % 3 + 1
-        levels = draw_row(rng, height, most_levels)
-        if turn % 2 == 0:
-            yield height, levels, draw_row(rng, height, most_levels)
-        else:
-            kept = tuple(level for level in levels if rng.random() < 0.7)
-            yield (height, levels, kept) if turn % 4 == 1 else (height, kept, levels)
 
 
 class CompareTest(Case):
@@ -60,7 +48,7 @@ class CompareTest(Case):
     def test_a_ladder_that_holds_another_tells_more(self):
         rng = drawn(35)
         seen = []
-        for height, levels, other_levels in pairs(rng, 8, 150):
+        for height, levels, other_levels in pairs_of_levels(rng, 8, 150):
             answer = compare(Ladder(height, levels), Ladder(height, other_levels))
             seen.append(answer)
             game = draw_game(rng, most_size=6, most_out=2, height=height)
@@ -88,7 +76,7 @@ class PartingRowTest(Case):
     def test_against_a_search(self):
         rng = drawn(350)
         none = 0
-        for height, levels, other_levels in pairs(rng, 6, 150):
+        for height, levels, other_levels in pairs_of_levels(rng, 6, 150):
             row = parting_row(Ladder(height, levels), Ladder(height, other_levels))
             self.assertEqual(row, slow_parting_row(height, levels, other_levels))
             self.assertTrue(row is None or type(row) is tuple)
@@ -98,7 +86,7 @@ class PartingRowTest(Case):
 
     def test_what_the_row_shows(self):
         rng = drawn(351)
-        for height, levels, other_levels in pairs(rng, 6, 120):
+        for height, levels, other_levels in pairs_of_levels(rng, 6, 120):
             ladder, other = Ladder(height, levels), Ladder(height, other_levels)
             row = parting_row(ladder, other)
             if row is not None:
@@ -139,7 +127,7 @@ class AlikeTest(Case):
 
     def test_in_both_orders(self):
         rng = drawn(352)
-        for height, levels, other_levels in pairs(rng, 6, 150):
+        for height, levels, other_levels in pairs_of_levels(rng, 6, 150):
             ladder, other = Ladder(height, levels), Ladder(height, other_levels)
             rows = [slow_parting_row(height, levels, other_levels), slow_parting_row(height, other_levels, levels)]
             expected = min((len(row) for row in rows if row is not None), default=None)

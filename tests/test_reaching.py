@@ -1,7 +1,5 @@
 """Point [34]: the reach of ladders."""
 
-import itertools
-
 from ladderreach.climbing import told_nodes
 from ladderreach.errors import BadSize, TooLarge
 from ladderreach.ladders import Ladder
@@ -9,27 +7,13 @@ from ladderreach.reaching import failing_game, lacking, reach
 from ladderreach.rowgames import row_game
 from ladderreach.winners import solve
 from tests.helpers import (
-    Case, all_rows_up_to, draw_game, draw_row, drawn, long_levels, marked_holds, slow_holds,
+    Case, all_rows_up_to, draw_game, draw_row, drawn, long_levels, marked_holds, slow_lacking, slow_reach,
 )
 
 MOST_COUNTS = {1: 25, 2: 9, 3: 6}
 
 # Up to these counts the halving and the plain ladder have at most 12 levels.
 MOST_SHAPED = {1: 13, 2: 3, 3: 2}
-
-
-def slow_lacking(levels, height, count, holds=slow_holds):
-    for row in itertools.product(range(1, height + 1), repeat=count - 1):
-        if not holds(levels, row):
-            return row
-    return None
-
-
-def slow_reach(levels, height):
-    count = 1
-    while slow_lacking(levels, height, count + 1, marked_holds) is None:
-        count += 1
-    return count
 
 
 def ladders_up_to_12(rng, turns):

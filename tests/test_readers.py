@@ -6,26 +6,9 @@ from ladderreach.errors import BadSize, NoSuchRank, NoSuchStep
 from ladderreach.ladders import Ladder
 from ladderreach.reaching import reach
 from ladderreach.readers import Reader, read, stays
-from tests.helpers import Case, all_rows_up_to, allowed, draw_row, drawn, long_levels
-
-
-def slow_step(levels, step, rank):
-    """The greatest step to which the rank is allowed, None if there is none or the step is None."""
-    if step is None:
-        return None
-    return max([end for end in range(len(levels) + 1) if allowed(levels, step, rank, end)], default=None)
-
-
-def slow_read(levels, word, step):
-    found = []
-    for rank in word:
-        step = slow_step(levels, step, rank)
-        found.append(step)
-    return found
-
-
-def draw_word(rng, height, most):
-    return [rng.randint(0, 2 * height) for _ in range(rng.randint(0, most))]
+from tests.helpers import (
+    Case, all_rows_up_to, draw_row, draw_word, drawn, long_levels, slow_read, slow_step,
+)
 
 
 def draw_ladders(rng, turns):
