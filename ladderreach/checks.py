@@ -1,6 +1,8 @@
 """Checks of arguments that several calls share."""
 
-from ladderreach.errors import BadHeight, BadLevel, HeightMismatch, NoSuchNode, NoSuchRank, NoSuchStep, TooLarge
+from ladderreach.errors import (
+    BadHeight, BadLevel, BadSize, HeightMismatch, NoSuchNode, NoSuchRank, NoSuchStep, TooLarge,
+)
 
 
 def check_height(height):
@@ -13,6 +15,12 @@ def check_same_height(one, other):
     """Raise HeightMismatch if the two heights differ."""
     if one != other:
         raise HeightMismatch(f"the heights {one} and {other} differ")
+
+
+def check_count(count, most):
+    """Raise BadSize if the count is not one from 1 to the most."""
+    if not 1 <= count <= most:
+        raise BadSize(f"the count {count} is not 1 to {most}")
 
 
 def check_node(size, node):

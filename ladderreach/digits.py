@@ -3,4 +3,4 @@
 
 def is_number(word):
     """Whether the word is a number in decimal digits without leading zeros."""
-    return word == "0" or (word.isdigit() and not word.startswith("0"))
+    return word == "0" or (word.isascii() and word.isdigit() and not word.startswith("0"))

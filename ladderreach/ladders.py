@@ -1,7 +1,7 @@
 """Ladders: rows of levels with steps between them."""
 
-from ladderreach.checks import check_height, check_rank, check_row, check_same_height, check_step
-from ladderreach.errors import BadSize, NoSuchLevel
+from ladderreach.checks import check_count, check_height, check_rank, check_row, check_same_height, check_step
+from ladderreach.errors import NoSuchLevel
 from ladderreach.marks import holds
 from ladderreach.rowshapes import halving_row, plain_row
 
@@ -118,5 +118,4 @@ def _counts_from(level, levels):
 def _check_shape(height, count):
     """Raise the errors of a height and a count for which a row is built."""
     check_height(height)
-    if not 1 <= count <= Ladder.MOST_LEVELS + 1:
-        raise BadSize(f"the count {count} is not 1 to 25")
+    check_count(count, Ladder.MOST_LEVELS + 1)

@@ -7,7 +7,7 @@ from ladderreach.ladders import Ladder
 from ladderreach.reaching import lacking
 from ladderreach.rowshapes import rows_of, rows_up_to
 from ladderreach.sizes import floor_steps
-from ladderreach.winners import solve
+from ladderreach.winners import nodes_of_a
 
 # The item at the index of a height is the greatest count that least_ladder takes.
 _MOST_COUNTS = (0, 9, 4, 3)
@@ -34,16 +34,11 @@ def shortest_for(first, *others):
     games = [first, *others]
     for game in games:
         check_same_height(first.height, game.height)
-    if first.height == 3 or any([game.size > _MOST_NODES for game in games]):
+    if first.height == 3 or any([each.size > _MOST_NODES for each in games]):
         raise TooLarge("the games have the height 3 or too many nodes")
     # A ladder that reaches as far as the games are large tells all that A wins in them.
     most = floor_steps(first.height, _MOST_NODES) - 1
     ladders = [Ladder(first.height, row) for row in rows_up_to(first.height, most)]
-    good = [ladder for ladder in ladders if all([_tells_all(ladder, game) for game in games])]
+    won = [nodes_of_a(each) for each in games]
+    good = [ladder for ladder in ladders if [told_nodes(each, ladder) for each in games] == won]
     return good[0]
-
-
-def _tells_all(ladder, game):
-    """Whether the ladder tells every node of the game that A wins."""
-    winners, _ = solve(game)
-    return told_nodes(game, ladder) == [node for node, winner in enumerate(winners) if winner == "A"]

@@ -4,6 +4,11 @@ from ladderreach.checks import check_same_height
 from ladderreach.errors import BadPlacement
 
 
+def step_word(entry):
+    """The entry of a placement as it is written in a line."""
+    return "off" if entry is None else str(entry)
+
+
 def check_placement(game, ladder, placement):
     """Raise HeightMismatch, or BadPlacement for the least node whose entry is no step and not None."""
     check_same_height(game.height, ladder.height)

@@ -1,7 +1,6 @@
 """How many steps ladders need, and how many halving ladders have."""
 
-from ladderreach.checks import check_height
-from ladderreach.errors import BadSize
+from ladderreach.checks import check_count, check_height
 from ladderreach.rowshapes import halving_row
 
 _MOST_COUNT = 60
@@ -9,7 +8,8 @@ _MOST_COUNT = 60
 
 def floor_steps(height, count):
     """The number of steps that every ladder of this height has whose reach is at least the count."""
-    _check_count(height, count)
+    check_height(height)
+    check_count(count, _MOST_COUNT)
     if height == 1:
         return count
     if height == 2:
@@ -19,7 +19,8 @@ def floor_steps(height, count):
 
 def halving_steps(height, count):
     """The number of steps of the halving ladder, even if that is too long for a ladder."""
-    _check_count(height, count)
+    check_height(height)
+    check_count(count, _MOST_COUNT)
     return len(halving_row(count, height)) + 1
 
 
@@ -28,10 +29,3 @@ def _floor_of_two(count):
     if count == 0:
         return 0
     return count + _floor_of_two((count - 1) // 2) + _floor_of_two(count // 2)
-
-
-def _check_count(height, count):
-    """Raise BadHeight for the height, then BadSize if the count is not 1 to 60."""
-    check_height(height)
-    if not 1 <= count <= _MOST_COUNT:
-        raise BadSize(f"the count {count} is not 1 to {_MOST_COUNT}")

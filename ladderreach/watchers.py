@@ -1,7 +1,7 @@
 """Watchers: machines that read ranks."""
 
-from ladderreach.checks import check_height, check_rank
-from ladderreach.errors import BadMove, BadSize, NoSuchState
+from ladderreach.checks import check_count, check_height, check_rank
+from ladderreach.errors import BadMove, NoSuchState
 from ladderreach.routes import way_round
 
 
@@ -12,14 +12,13 @@ class Watcher:
 
     def __init__(self, height, moves):
         check_height(height)
-        if not 1 <= len(moves) <= Watcher.MOST_STATES:
-            raise BadSize(f"a watcher does not have {len(moves)} states")
+        check_count(len(moves), Watcher.MOST_STATES)
         for state, entries in enumerate(moves):
             if len(entries) != 2 * height + 1 or not all([_is_entry(len(moves), entry) for entry in entries]):
                 raise BadMove(state)
         self.height = height
         self.size = len(moves)
-        self.moves = tuple([tuple(entries) for entries in moves])
+        self.moves = tuple([tuple(given) for given in moves])
 
     def move(self, state, rank):
         """The next state, or None if the watcher goes off."""

@@ -1,6 +1,6 @@
 """Webs: nodes and the ranked edges between them."""
 
-from ladderreach.checks import check_height, check_node, check_nodes
+from ladderreach.checks import check_count, check_height, check_node, check_nodes
 from ladderreach.errors import BadEdge, BadSize, DuplicateEdge, TooLarge
 
 
@@ -12,8 +12,7 @@ class Web:
 
     def __init__(self, height, size, edges):
         check_height(height)
-        if not 1 <= size <= Web.MOST_NODES:
-            raise BadSize(f"a web does not have {size} nodes")
+        check_count(size, Web.MOST_NODES)
         if len(edges) > Web.MOST_EDGES:
             raise TooLarge(f"a web does not have {len(edges)} edges")
         _check_edges(height, size, edges)

@@ -10,6 +10,12 @@ def solve(game):
     return winners, [solved[node][1] for node in range(game.size)]
 
 
+def nodes_of_a(game):
+    """The list of the nodes that A wins."""
+    winners, _ = solve(game)
+    return [node for node, winner in enumerate(winners) if winner == "A"]
+
+
 def _solve_part(owners, nodes, edges):
     """A dict from each of the nodes to its winner and the winner's edge, None if the loser moves."""
     if not nodes:

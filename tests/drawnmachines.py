@@ -61,3 +61,85 @@ def slow_staying(game, moves):
         if not bad:
             return [[state for state in range(len(moves)) if (node, state) in pairs] for node in range(game.size)]
         pairs.remove(bad[0])
+
+
+def draw_monitor_moves(rng, height, states, letters, answers):
+    """Moves of a monitor of this shape."""
+    return [
+        [[(rng.randint(0, 2 * height), rng.randrange(states)) for _ in range(answers)] for _ in range(letters)]
+        for _ in range(states)
+    ]
+
+
+def monitor_shapes():
+    return [(states, letters, answers) for states in (1, 2, 3) for letters in (1, 2) for answers in (1, 2, 3)]
+
+
+def draw_monitors(rng, turns):
+    """Heights and moves of monitors of every shape, this many of each height and shape."""
+    for height in (1, 2, 3):
+        for shape in monitor_shapes():
+            for _ in range(turns):
+                yield height, draw_monitor_moves(rng, height, *shape)
+
+
+def draw_controller_moves(rng, letters, answers, memories=None):
+    memories = memories or rng.randint(1, 4)
+    return [[(rng.randrange(answers), rng.randrange(memories)) for _ in range(letters)] for _ in range(memories)]
+
+
+def draw_world_moves(rng, letters, answers, memories=None):
+    memories = memories or rng.randint(1, 4)
+    return [(rng.randrange(letters), [rng.randrange(memories) for _ in range(answers)]) for _ in range(memories)]
+
+
+def controller_talk(monitor_moves, controller_moves, letters, place=(0, 0)):
+    """The ranks of the talk with these letters, and the state and the memory behind it."""
+    state, memory = place
+    ranks = []
+    for letter in letters:
+        answer, memory = controller_moves[memory][letter]
+        rank, state = monitor_moves[state][letter][answer]
+        ranks.append(rank)
+    return ranks, (state, memory)
+
+
+def world_talk(monitor_moves, world_moves, answers, place=(0, 0)):
+    """The ranks of the talk with these answers, and the state and the memory behind it."""
+    state, memory = place
+    ranks = []
+    for answer in answers:
+        letter, ends = world_moves[memory]
+        rank, state = monitor_moves[state][letter][answer]
+        memory = ends[answer]
+        ranks.append(rank)
+    return ranks, (state, memory)
+
+
+def has_talk(places, talk, signs, remainder):
+    """Whether by these signs some cycle of places that can be reached from the first has such a greatest rank."""
+    edges = []
+    for at, place in enumerate(places):
+        for sign in signs:
+            ranks, end = talk([sign], place)
+            edges.append((at, ranks[0], places.index(end)))
+    table = reaches(len(places), edges)
+    return has_cycle(len(places), [edge for edge in edges if table[0][edge[0]]], remainder)
+
+
+def all_places(states, memories):
+    return [(state, memory) for state in range(states) for memory in range(memories)]
+
+
+def controller_fails(monitor_moves, controller_moves):
+    """Whether some talk with the controller is not kept."""
+    places = all_places(len(monitor_moves), len(controller_moves))
+    return has_talk(places, lambda letters, place: controller_talk(monitor_moves, controller_moves, letters, place),
+                    range(len(monitor_moves[0])), 1)
+
+
+def world_fails(monitor_moves, world_moves):
+    """Whether some talk with the world is kept."""
+    places = all_places(len(monitor_moves), len(world_moves))
+    return has_talk(places, lambda answers, place: world_talk(monitor_moves, world_moves, answers, place),
+                    range(len(monitor_moves[0][0])), 0)

@@ -7,6 +7,7 @@ from ladderreach.asking import asked
 from ladderreach.asks import Ask
 from ladderreach.climbing import climb
 from ladderreach.cycles import components
+from ladderreach.desks import Desk
 from ladderreach.errors import BadEdge, BadLine
 from ladderreach.games import Game
 from ladderreach.holding import hold
@@ -15,6 +16,7 @@ from ladderreach.laddertext import parse_ladder
 from ladderreach.leasts import least_ladder
 from ladderreach.reaching import lacking, reach
 from ladderreach.readers import read
+from ladderreach.reports import table
 from ladderreach.rowgames import row_game
 from ladderreach.sizes import floor_steps, halving_steps
 from ladderreach.stands import stand
@@ -35,6 +37,13 @@ CLASSES = {
     "asks": {"Ask": ["__init__", "__eq__", "never", "always", "__contains__", "__or__", "__and__", "within"]},
     "readers": {"Reader": ["__init__", "__call__", "off", "reset"]},
     "watchers": {"Watcher": ["__init__", "move"]},
+    "monitors": {"Monitor": ["__init__"]},
+    "machines": {"Controller": ["__init__", "__call__", "reset"], "World": ["__init__"]},
+    "desks": {"Desk": [
+        "__init__", "ladder", "placement", "log", "changes", "depth", "put", "cut", "give", "use", "undo", "redo",
+        "run",
+    ]},
+    "solvers": {name: ["__init__", "tells"] for name in ("Solver", "Taker", "Climber", "Holder", "Follower")},
 }
 
 FUNCTIONS = {
@@ -63,6 +72,10 @@ FUNCTIONS = {
     "watchladders": ["ladder_of", "watcher_of"],
     "sizes": ["floor_steps", "halving_steps"],
     "leasts": ["least_ladder", "shortest_for"],
+    "monitors": ["monitor_game"],
+    "judging": ["judge_controller", "judge_world", "meet"],
+    "synthesis": ["synthesize", "synthesize_on"],
+    "reports": ["table", "nodes_where"],
 }
 
 
@@ -144,3 +157,12 @@ class ExampleTest(Case):
 
     def test_leasts(self):
         self.assertEqual(least_ladder(2, 3).levels, (2, 1, 1, 2))
+
+    def test_desks(self):
+        desk = Desk(Game(1, "BB", [(0, 1, 1), (1, 2, 0)]), Ladder(1, [1]))
+        self.assertEqual(desk.run(["show 0", "told", "levels"]), ["0 B 1", "told 0 1", "ladder 1: 1"])
+
+    def test_reports(self):
+        self.assertEqual(
+            table(Game(1, "BB", [(0, 1, 1), (1, 2, 0)]), Ladder(1, [1])),
+            ["node  o  w  step", "   0  B  A     1", "   1  B  A     0"])
